@@ -1,0 +1,1 @@
+"""Nextmarks: a ring log that finds its end without checksums."""

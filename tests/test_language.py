@@ -1,0 +1,95 @@
+"""Rules of the language that a look at the files of the package can tell."""
+
+import ast
+import builtins
+import pathlib
+import re
+import unittest
+
+PACKAGE = pathlib.Path(__file__).resolve().parent.parent / "nextmarks"
+
+ALLOWED_BUILTINS = set("""
+    len range enumerate zip min max sum abs sorted reversed int str bool bytes list tuple dict set frozenset isinstance
+    ord repr any all divmod iter next super property staticmethod classmethod Exception ValueError TypeError KeyError
+    IndexError LookupError ZeroDivisionError ArithmeticError OverflowError RuntimeError NotImplementedError
+    AttributeError StopIteration NotImplemented
+""".split())
+
+BARRED_WORDS = re.compile(
+    r"\b(type|typing|typing_extensions|enum|Enum|IntEnum|StrEnum|Flag|IntFlag|Generic|Protocol|ABC|ABCMeta|namedtuple"
+    r"|NamedTuple|TypedDict|TYPE_CHECKING|abstractmethod)\b|dataclass|overload|contextmanager")
+
+
+def sources():
+    return {path.name: path.read_text(encoding="utf-8") for path in sorted(PACKAGE.glob("*.py"))}
+
+
+def nodes(kind):
+    return [(name, node) for name, text in sources().items() for node in ast.walk(ast.parse(text))
+            if isinstance(node, kind)]
+
+
+def bound_names(tree):
+    """Return the names that the functions, classes and assignments at module level bind."""
+    names = []
+    for node in tree.body:
+        if isinstance(node, (ast.FunctionDef, ast.ClassDef)):
+            names.append(node.name)
+        elif isinstance(node, ast.Assign):
+            names.extend(target.id for target in node.targets)
+    return names
+
+
+class Language(unittest.TestCase):
+    def test_package_contains_only_its_files(self):
+        self.assertIn("__init__.py", sources())
+        for path in PACKAGE.iterdir():
+            if path.name != "__pycache__":
+                self.assertRegex(path.name, r"^[a-z0-9_]+\.py$")
+
+    def test_characters_and_sizes(self):
+        for name, text in sources().items():
+            self.assertRegex(text, r"\A[\n -~]*\Z", name)
+            self.assertLessEqual(len(text.splitlines()), 400, name)
+            self.assertLessEqual(max(map(len, text.splitlines()), default=0), 120, name)
+        for name, node in nodes(ast.FunctionDef):
+            self.assertLessEqual(node.end_lineno - node.lineno + 1, 40, (name, node.name))
+
+    def test_barred_words(self):
+        for name, text in sources().items():
+            self.assertIsNone(BARRED_WORDS.search(text), name)
+
+    def test_imports_name_the_file_that_defines_the_name(self):
+        self.assertEqual(nodes(ast.Import), [])
+        bound = {name: bound_names(ast.parse(text)) for name, text in sources().items()}
+        for name, node in nodes(ast.ImportFrom):
+            package, _, module = (node.module or "").partition(".")
+            self.assertEqual((node.level, package), (0, "nextmarks"), name)
+            for alias in node.names:
+                self.assertIn(alias.name, bound[module + ".py"], name)
+
+    def test_names_are_bound_once(self):
+        for name, text in sources().items():
+            names = bound_names(ast.parse(text))
+            self.assertEqual(sorted(names), sorted(set(names)), name)
+
+    def test_only_allowed_builtins(self):
+        for name, node in nodes(ast.Name):
+            self.assertFalse(node.id.startswith("_"), (name, node.id))
+            if hasattr(builtins, node.id):
+                self.assertIn(node.id, ALLOWED_BUILTINS, name)
+                self.assertIsInstance(node.ctx, ast.Load, (name, node.id))
+        for name, node in nodes(ast.arg):
+            self.assertFalse(hasattr(builtins, node.arg) or node.arg.startswith("_"), (name, node.arg))
+
+    def test_barred_syntax(self):
+        barred = (ast.Global, ast.AsyncFunctionDef, ast.Await, ast.Div)
+        self.assertEqual(nodes(barred), [])
+        for name, node in nodes(ast.Constant):
+            self.assertNotIsInstance(node.value, (float, complex), name)
+            if isinstance(node.value, str):
+                self.assertNotIn(chr(37), node.value, name)
+
+
+if __name__ == "__main__":
+    unittest.main()
