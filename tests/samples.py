@@ -2,6 +2,9 @@
 
 import copy
 import itertools
+from random import Random
+
+from nextmarks.names import named_rule
 
 
 def nested(depth):
@@ -74,4 +77,56 @@ def some_rules(random, marks, count):
         share = (at + 1) / (count + 1)
         rules.append(tuple(
             tuple(other for other in range(marks) if random.random() < share) for _ in range(marks)))
+    return rules
+
+
+def toggled(rule, mark, other):
+    """Return the rule with one follower left out or put in."""
+    return rule[:mark] + (tuple(sorted(set(rule[mark]) ^ {other})),) + rule[mark + 1:]
+
+
+def no_followers(marks):
+    return ((),) * marks
+
+
+def all_followers(marks):
+    return (tuple(range(marks)),) * marks
+
+
+def line(marks):
+    return tuple((mark + 1,) for mark in range(marks - 1)) + ((),)
+
+
+def ring(marks):
+    return tuple(((mark + 1) % marks,) for mark in range(marks))
+
+
+def hub(marks):
+    """Return the rule in which all other marks follow mark 0, and mark 0 follows them."""
+    return (tuple(range(1, marks)),) + ((0,),) * (marks - 1)
+
+
+def shapes(marks):
+    return [shape(marks) for shape in (no_followers, all_followers, line, ring, hub)]
+
+
+def enlarged(random, rule, marks):
+    """Return a rule for so many marks that has this one in it, its marks scattered, others leading to it."""
+    rows = list(rule) + [
+        tuple(other for other in range(marks) if random.random() < 0.4) for _ in range(marks - len(rule))]
+    order = random.sample(range(marks), marks)
+    renamed = [()] * marks
+    for mark, row in enumerate(rows):
+        renamed[order[mark]] = tuple(sorted(order[other] for other in row))
+    return tuple(renamed)
+
+
+def rules_up_to(most, seed, count):
+    """Return rules of one mark to so many marks, some of each number, and some of them with a core."""
+    source = Random(seed)
+    rules = []
+    for marks in range(1, most + 1):
+        rules.extend(shapes(marks))
+        rules.extend(some_rules(source, marks, count))
+        rules.extend(enlarged(source, named_rule(values), marks) for values in (2, 3, 4) if values * values <= marks)
     return rules

@@ -82,6 +82,32 @@ class Language(unittest.TestCase):
         for name, node in nodes(ast.arg):
             self.assertFalse(hasattr(builtins, node.arg) or node.arg.startswith("_"), (name, node.arg))
 
+    def test_no_two_files_import_from_each_other(self):
+        imported = {name: set() for name in sources()}
+        for name, node in nodes(ast.ImportFrom):
+            imported[name].add(node.module.partition(".")[2] + ".py")
+        left = set(imported)
+        while left:
+            free = {name for name in left if not imported[name] & left}
+            self.assertTrue(free, left)
+            left -= free
+
+    def test_no_name_is_a_method_and_an_attribute(self):
+        methods = {item.name for _, node in nodes(ast.ClassDef) for item in node.body
+                   if isinstance(item, ast.FunctionDef)}
+        assigned = {node.attr for _, node in nodes(ast.Attribute) if isinstance(node.ctx, ast.Store)}
+        self.assertEqual(methods & assigned, set())
+
+    def test_no_local_name_is_that_of_an_import(self):
+        for name, text in sources().items():
+            tree = ast.parse(text)
+            imported = {alias.name for node in ast.walk(tree) if isinstance(node, ast.ImportFrom)
+                        for alias in node.names}
+            stored = {node.id for node in ast.walk(tree) if isinstance(node, ast.Name)
+                      and isinstance(node.ctx, ast.Store)}
+            passed = {node.arg for node in ast.walk(tree) if isinstance(node, ast.arg)}
+            self.assertEqual(imported & (stored | passed), set(), name)
+
     def test_barred_syntax(self):
         barred = (ast.Global, ast.AsyncFunctionDef, ast.Await, ast.Div)
         self.assertEqual(nodes(barred), [])
