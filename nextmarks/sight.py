@@ -11,11 +11,16 @@ from nextmarks.rules import may_follow
 MOST_EXPLORED = 12
 
 
+def fitting_behind(rule, marks, lying):
+    """Return the ascending tuple of the marks that fit behind some of these marks with these lying marks."""
+    return tuple(sorted({other for mark in marks for other in fitting(rule, mark, lying)}))
+
+
 def layers(rule, mark, contents):
     """Return the ascending tuples of the marks that rows reach: the mark itself, then one for each Xk."""
     found = [(mark,)]
     for lying in contents:
-        found.append(tuple(sorted({other for ahead in found[-1] for other in fitting(rule, ahead, lying)})))
+        found.append(fitting_behind(rule, found[-1], lying))
     return found
 
 
