@@ -3,9 +3,14 @@
 from nextmarks.rules import may_follow
 
 
+def is_barred(rule, lying, other):
+    """Return whether some of these lying marks may follow other."""
+    return any([may_follow(rule, other, lies) for lies in lying])
+
+
 def fits(rule, mark, lying, other):
     """Return whether other fits behind the mark with these lying marks."""
-    return may_follow(rule, mark, other) and not any([may_follow(rule, other, lies) for lies in lying])
+    return may_follow(rule, mark, other) and not is_barred(rule, lying, other)
 
 
 def fitting(rule, mark, lying):
@@ -79,9 +84,22 @@ def appends_left(rule, mirrors, mark):
     return None
 
 
-def choice(rule, mirrors, mark, lying):
-    """Return the least mark of the core that fits behind the mark with these lying marks, or None."""
-    for other in core(rule, mirrors):
+def least_fitting(rule, marks, mark, lying):
+    """Return the first of these marks that fits behind the mark with these lying marks, or None."""
+    for other in marks:
         if fits(rule, mark, lying, other):
             return other
     return None
+
+
+def least_unbarred(rule, marks, lying):
+    """Return the first of these marks that none of the lying marks may follow, or None."""
+    for other in marks:
+        if not is_barred(rule, lying, other):
+            return other
+    return None
+
+
+def choice(rule, mirrors, mark, lying):
+    """Return the least mark of the core that fits behind the mark with these lying marks, or None."""
+    return least_fitting(rule, core(rule, mirrors), mark, lying)

@@ -4,7 +4,9 @@ import copy
 import itertools
 from random import Random
 
+from nextmarks.games import serves
 from nextmarks.names import named_rule
+from nextmarks.rules import called
 
 
 def nested(depth):
@@ -35,6 +37,17 @@ OTHER_KINDS = (
     (0, 1), ((0, None),), ((None, 0),), (("0",),), ((0, "1"), (0,)), (((0,),),), ((0, (1,)),), (([0],), (0,)),
     nested(58), nested(59), nested(60), nested_tuples(60), nested_lists(60),
     (nested(58),), ((nested(58),),), ((0, nested(58)), (0,)), (nested_tuples(59),), (nested_lists(59),),
+)
+
+BAD_PAYLOADS = (
+    "abcdefghi", "a" * 9, "a" * 1000, "A", "aB", "a b", " a", "a ", " ", "-", "a-", "0", "a1", "\n", "a\n", "`", "{",
+    "a:b", "_", None, 0, 1, True, False, (), ("a",), ["a"], {"a": 1}, nested(58), nested_tuples(58), nested_lists(58),
+)
+BAD_RECORDS = (
+    *((0, payload) for payload in BAD_PAYLOADS),
+    (16, "a"), (-1, "a"), (10 ** 30, "a"), (True, "a"), (False, "a"), (None, "a"), ("1", "a"), ((1,), "a"), ([1], "a"),
+    (0,), ("a",), (0, "a", "b"), (0, "a", None), ("a", 0), (), [0, "a"], [], {0: "a"}, {}, "0a", "0:a", "ab", 0, True,
+    None, ((0, "a"),), [(0, "a")], (nested(58), "a"), (nested_tuples(58), nested_lists(58)),
 )
 
 
@@ -130,3 +143,29 @@ def rules_up_to(most, seed, count):
         rules.extend(some_rules(source, marks, count))
         rules.extend(enlarged(source, named_rule(values), marks) for values in (2, 3, 4) if values * values <= marks)
     return rules
+
+
+def some_payload(source):
+    return "".join(source.choice("abcxyz") for _ in range(source.choice((0, 1, 1, 2, 3, 8))))
+
+
+def some_rings(source, mirrors, slots, marks):
+    """Return so many rings of so many records with marks below a number."""
+    return tuple(tuple((source.randrange(marks), some_payload(source)) for _ in range(slots)) for _ in range(mirrors))
+
+
+def some_kept(source, device):
+    """Return a value that the crash of the device accepts: all writes are kept, or none, or some."""
+    share = source.choice((0, 0.3, 0.5, 0.7, 1))
+    return tuple(tuple(source.random() < share for _ in writes) for writes in device.unflushed())
+
+
+def serving_rules(source, mirrors):
+    """Return rules that serve so many mirrors: named ones, also called otherwise, and some with marks beside the core."""
+    rules = []
+    for values in range(mirrors + 1, 5):
+        rule = named_rule(values)
+        rules.extend([rule, called(rule, tuple(source.sample(range(len(rule)), len(rule))))])
+        rules.extend(enlarged(source, rule, marks) for marks in range(len(rule) + 1, 17, 3))
+    others = some_rules(source, 12, 60) if mirrors == 1 else []
+    return rules + [rule for rule in others if serves(rule, mirrors)][:4]

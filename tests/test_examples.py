@@ -3,6 +3,8 @@
 import doctest
 import unittest
 
+from nextmarks.errors import MarkError
+
 POINT_4 = """
 >>> from nextmarks.rules import is_rule
 >>> [is_rule(((0, 1), (0,))), is_rule(((1, 0), (0,)))]
@@ -90,32 +92,161 @@ POINT_9 = """
 [None, True, False]
 """
 
+POINT_10 = """
+>>> from nextmarks.devices import is_record
+>>> [is_record((3, 'old')), is_record((16, 'old')), is_record([3, 'old'])]
+[True, False, False]
+
+>>> from nextmarks.devices import Device
+>>> device = Device((((1, 'old'), (3, 'old'), (3, 'old'), (0, 'old')),))
+>>> device.write(0, 1, (2, 'x'))
+>>> [device.read(0, 1), device.unflushed()]
+[(2, 'x'), (((1, (2, 'x')),),)]
+
+>>> from nextmarks.devices import Device
+>>> device = Device((((1, 'old'), (3, 'old'), (3, 'old'), (0, 'old')),))
+>>> device.write(0, 1, (2, 'x'))
+>>> device.crash(((False,),))
+>>> [device.read(0, 1), device.unflushed(), device.crashes()]
+[(3, 'old'), ((),), 1]
+
+>>> from nextmarks.devices import Device
+>>> device = Device((((1, 'old'), (3, 'old'), (3, 'old'), (0, 'old')),))
+>>> device.allow(1)
+>>> device.write(0, 1, (2, 'x'))
+>>> device.write(0, 2, (2, 'y'))
+raises PowerLost()
+"""
+
+POINT_11 = """
+>>> from nextmarks.devices import Device
+>>> from nextmarks.readers import payloads, records
+>>> from nextmarks.names import named_rule
+>>> device = Device((((1, 'old'), (3, 'old'), (3, 'old'), (0, 'old')),))
+>>> device.set_header(3, 2)
+>>> [records(device, named_rule(2), 0), payloads(device, named_rule(2), 0)]
+[((0, 'old'), (1, 'old'), (3, 'old')), ('old', 'old', 'old')]
+"""
+
+POINT_12 = """
+>>> from nextmarks.devices import Device
+>>> from nextmarks.logs import format_log, recover
+>>> from nextmarks.names import named_rule
+>>> device = Device((((1, 'old'), (3, 'old'), (3, 'old'), (0, 'old')),))
+>>> log = format_log(device, named_rule(2))
+>>> log.append('x')
+>>> log.append('y')
+>>> [device.header(), log.records()]
+[(0, 1), ((2, 'x'), (0, 'y'))]
+
+>>> from nextmarks.devices import Device
+>>> from nextmarks.logs import format_log, recover
+>>> from nextmarks.readers import payloads
+>>> from nextmarks.names import named_rule
+>>> device = Device((((1, 'old'), (3, 'old'), (3, 'old'), (0, 'old')),))
+>>> log = format_log(device, named_rule(2))
+>>> log.append('x')
+>>> log.append('y')
+>>> device.crash(((False, True),))
+>>> payloads(device, named_rule(2), 0)
+()
+"""
+
+POINT_13 = """
+>>> from nextmarks.devices import Device
+>>> from nextmarks.logs import format_log, recover
+>>> from nextmarks.names import named_rule
+>>> device = Device((((1, 'old'), (3, 'old'), (3, 'old')), ((2, 'old'), (0, 'old'), (1, 'old'))))
+>>> rule = named_rule(3)
+>>> log = format_log(device, rule)
+>>> log.append('x')
+>>> log.append('y')
+>>> device.crash(((True, False), (False, True)))
+>>> again = recover(device, rule)
+>>> again.payloads()
+('x',)
+"""
+
+POINT_14 = """
+>>> from nextmarks.devices import Device
+>>> from nextmarks.logs import format_log, recover
+>>> from nextmarks.names import named_rule
+>>> device = Device((((1, 'old'), (3, 'old'), (3, 'old'), (0, 'old')),))
+>>> log = format_log(device, named_rule(2))
+>>> log.append('x')
+>>> log.append('y')
+>>> log.cut(1)
+>>> [log.records(), device.read(0, 0), device.read(0, 1)]
+[((3, 'x'),), (3, 'x'), (0, 'y')]
+
+>>> from nextmarks.devices import Device
+>>> from nextmarks.logs import format_log, recover
+>>> from nextmarks.names import named_rule
+>>> device = Device((((1, 'old'), (3, 'old'), (3, 'old'), (0, 'old')),))
+>>> log = format_log(device, named_rule(2))
+>>> log.append('x')
+>>> log.append('y')
+>>> log.trim(1)
+>>> [log.payloads(), device.header()]
+[('y',), (1, 2)]
+"""
+
 
 class Examples(unittest.TestCase):
-    def check(self, point, text, count):
-        examples = doctest.DocTestParser().get_doctest(text, {}, point, None, 0)
-        told = []
-        results = doctest.DocTestRunner().run(examples, out=told.append)
-        self.assertEqual(results.failed, 0, "".join(told))
-        self.assertEqual(results.attempted, count)
+    def check(self, text, count):
+        """Run the examples, which blank lines divide, each on its own; of some lines the document tells no result."""
+        checked = 0
+        for block in text.split("\n\n"):
+            names = {}
+            for example in doctest.DocTestParser().get_examples(block):
+                if not example.want:
+                    exec(example.source, names)
+                elif example.want.startswith("raises "):
+                    self.assertEqual("raises " + self.raised(example.source, names), example.want.strip())
+                else:
+                    self.assertEqual(repr(eval(example.source, names)), example.want.strip())
+                checked += bool(example.want)
+        self.assertEqual(checked, count)
+
+    def raised(self, source, names):
+        """Return the error that the line raises, as the document writes it."""
+        with self.assertRaises(MarkError) as caught:
+            eval(source, names)
+        held = ", ".join(f"{name}={value!r}" for name, value in vars(caught.exception).items())
+        return f"{type(caught.exception).__name__}({held})"
 
     def test_point_4(self):
-        self.check("point 4", POINT_4, 8)
+        self.check(POINT_4, 4)
 
     def test_point_5(self):
-        self.check("point 5", POINT_5, 7)
+        self.check(POINT_5, 3)
 
     def test_point_6(self):
-        self.check("point 6", POINT_6, 13)
+        self.check(POINT_6, 4)
 
     def test_point_7(self):
-        self.check("point 7", POINT_7, 3)
+        self.check(POINT_7, 1)
 
     def test_point_8(self):
-        self.check("point 8", POINT_8, 3)
+        self.check(POINT_8, 1)
 
     def test_point_9(self):
-        self.check("point 9", POINT_9, 9)
+        self.check(POINT_9, 3)
+
+    def test_point_10(self):
+        self.check(POINT_10, 4)
+
+    def test_point_11(self):
+        self.check(POINT_11, 1)
+
+    def test_point_12(self):
+        self.check(POINT_12, 2)
+
+    def test_point_13(self):
+        self.check(POINT_13, 1)
+
+    def test_point_14(self):
+        self.check(POINT_14, 2)
 
 
 if __name__ == "__main__":

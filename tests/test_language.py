@@ -19,6 +19,16 @@ BARRED_WORDS = re.compile(
     r"\b(type|typing|typing_extensions|enum|Enum|IntEnum|StrEnum|Flag|IntFlag|Generic|Protocol|ABC|ABCMeta|namedtuple"
     r"|NamedTuple|TypedDict|TYPE_CHECKING|abstractmethod)\b|dataclass|overload|contextmanager")
 
+BUILTIN_METHODS = set("""
+    append clear copy count endswith extend find get index insert isalnum isalpha isdigit islower isspace isupper items
+    join keys ljust lower lstrip partition pop remove replace reverse rfind rjust rpartition rsplit rstrip setdefault
+    split splitlines startswith strip update upper values zfill bit_length
+""".split())
+
+BARRED_NAMES = set("""
+    register mro elements open input version_info with_traceback add_note format format_map args
+""".split())
+
 
 def sources():
     return {path.name: path.read_text(encoding="utf-8") for path in sorted(PACKAGE.glob("*.py"))}
@@ -38,6 +48,14 @@ def bound_names(tree):
         elif isinstance(node, ast.Assign):
             names.extend(target.id for target in node.targets)
     return names
+
+
+def method_names():
+    return {item.name for _, node in nodes(ast.ClassDef) for item in node.body if isinstance(item, ast.FunctionDef)}
+
+
+def attribute_names():
+    return {node.attr for _, node in nodes(ast.Attribute) if isinstance(node.ctx, ast.Store)}
 
 
 class Language(unittest.TestCase):
@@ -93,10 +111,39 @@ class Language(unittest.TestCase):
             left -= free
 
     def test_no_name_is_a_method_and_an_attribute(self):
-        methods = {item.name for _, node in nodes(ast.ClassDef) for item in node.body
-                   if isinstance(item, ast.FunctionDef)}
-        assigned = {node.attr for _, node in nodes(ast.Attribute) if isinstance(node.ctx, ast.Store)}
-        self.assertEqual(methods & assigned, set())
+        self.assertEqual(method_names() & attribute_names(), set())
+
+    def test_attributes_are_assigned_by_a_class_or_are_methods(self):
+        known = method_names() | attribute_names() | BUILTIN_METHODS
+        for name, node in nodes(ast.Attribute):
+            self.assertIn(node.attr, known, name)
+            self.assertNotIn(node.attr, BARRED_NAMES, name)
+        self.assertEqual(attribute_names() & (BUILTIN_METHODS - {"count"}), set())
+
+    def test_double_underscore_methods(self):
+        self.assertEqual({name for name in method_names() if name.startswith("_")}, {"__init__", "__eq__", "__len__"})
+
+    def test_errors_are_raised_by_name_and_own_ones_are_caught(self):
+        errors = set(bound_names(ast.parse(sources()["errors.py"])))
+        for name, node in nodes(ast.Raise):
+            self.assertIsNone(node.cause, name)
+            if node.exc is not None:
+                self.assertIsInstance(node.exc, ast.Call, name)
+                self.assertIn(node.exc.func.id, errors, name)
+        for name, node in nodes(ast.ExceptHandler):
+            self.assertIn(node.type.id, errors, name)
+
+    def test_is_stands_beside_none_and_bools(self):
+        for name, node in nodes(ast.Compare):
+            for sign, other in zip(node.ops, node.comparators):
+                if isinstance(sign, (ast.Is, ast.IsNot)):
+                    self.assertIsInstance(other, ast.Constant, name)
+                    self.assertIn(other.value, (None, True, False), name)
+
+    def test_no_keywords_where_builtin_values_have_such_a_method(self):
+        for name, node in nodes(ast.Call):
+            if isinstance(node.func, ast.Attribute) and node.func.attr in BUILTIN_METHODS:
+                self.assertEqual(node.keywords, [], name)
 
     def test_no_local_name_is_that_of_an_import(self):
         for name, text in sources().items():
@@ -109,7 +156,8 @@ class Language(unittest.TestCase):
             self.assertEqual(imported & (stored | passed), set(), name)
 
     def test_barred_syntax(self):
-        barred = (ast.Global, ast.AsyncFunctionDef, ast.Await, ast.Div)
+        # A class has __eq__, so any, all and their kin take lists in place of generator expressions.
+        barred = (ast.Global, ast.AsyncFunctionDef, ast.Await, ast.Div, ast.GeneratorExp, ast.Yield, ast.YieldFrom)
         self.assertEqual(nodes(barred), [])
         for name, node in nodes(ast.Constant):
             self.assertNotIsInstance(node.value, (float, complex), name)
