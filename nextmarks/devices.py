@@ -85,7 +85,7 @@ class Device:
 
     def step(self):
         """Count a step that is about to be done, or lose the power ahead of it."""
-        if self.limit == 0:
+        if self.limit is not None and self.limit < 1:
             self.power = False
         if not self.power:
             raise PowerLost()

@@ -191,6 +191,55 @@ POINT_14 = """
 [('y',), (1, 2)]
 """
 
+POINT_15 = r"""
+>>> from nextmarks.devices import Device
+>>> from nextmarks.explore import kept_choices
+>>> device = Device((((1, 'old'), (3, 'old'), (3, 'old'), (0, 'old')),))
+>>> device.write(0, 1, (2, 'x'))
+>>> kept_choices(device)
+(((False,),), ((True,),))
+
+>>> from nextmarks.devices import Device
+>>> from nextmarks.logs import format_log, recover
+>>> from nextmarks.explore import crash_rows
+>>> from nextmarks.names import named_rule
+>>> device = Device((((1, 'old'), (3, 'old'), (3, 'old'), (0, 'old')),))
+>>> log = format_log(device, named_rule(2))
+>>> log.append('x')
+>>> log.append('y')
+>>> crash_rows(device, named_rule(2))
+(((),), (('x',),), (('x', 'y'),))
+"""
+
+POINT_16 = r"""
+>>> from nextmarks.devices import Device
+>>> from nextmarks.showing import show_device, show_record, show_rule
+>>> device = Device((((1, 'old'), (3, 'old'), (3, 'old'), (0, 'old')),))
+>>> device.write(0, 1, (2, ''))
+>>> [show_rule(((0, 1), ())), show_record((2, '')), show_device(device)]
+['0 1\n-', '2:-', 'header -\nmirror 1:old 3:old 3:old 0:old\nwrite 0 1 2:-']
+
+>>> from nextmarks.reading import read_rule
+>>> read_rule('0 1\n-')
+((0, 1), ())
+
+>>> from nextmarks.reading import read_rule
+>>> read_rule('0 1\n1 0')
+raises BadText(line=1)
+"""
+
+POINT_17 = r"""
+>>> from nextmarks.session import Session
+>>> session = Session('0 1\n2 3\n0 1\n2 3', 'header -\nmirror 1:old 3:old 3:old 0:old')
+>>> session.say('format')
+>>> session.say('append x')
+>>> session.say('append y')
+>>> session.say('crash 10')
+>>> session.say('recover')
+>>> [session.say('log'), session.say('rows'), session.say('marks')]
+['x', 'x', '2']
+"""
+
 
 class Examples(unittest.TestCase):
     def check(self, text, count):
@@ -247,6 +296,15 @@ class Examples(unittest.TestCase):
 
     def test_point_14(self):
         self.check(POINT_14, 2)
+
+    def test_point_15(self):
+        self.check(POINT_15, 2)
+
+    def test_point_16(self):
+        self.check(POINT_16, 3)
+
+    def test_point_17(self):
+        self.check(POINT_17, 1)
 
 
 if __name__ == "__main__":

@@ -7,9 +7,11 @@ import unittest
 import reference
 from nextmarks.attackers import Attacker
 from nextmarks.certificates import certificate, shows_certificate
+from nextmarks.devices import Device
 from nextmarks.errors import Unstoppable
 from nextmarks.games import appends_left, choice, core, fitting, rounds, serves
 from nextmarks.names import fewest_marks, named_rule, names_of
+from nextmarks.readers import records
 from nextmarks.rules import called, cut_down, is_rule
 from nextmarks.sight import blocking, ends, family, row_for, shows_sight
 from samples import all_rules, enlarged, rules_up_to, some_rules, toggled
@@ -61,6 +63,53 @@ class Game(unittest.TestCase):
                     lying = tuple(source.randrange(16) for _ in range(mirrors))
                     mark = choice(rule, mirrors, mark, lying)
                     self.assertIn(mark, core(rule, mirrors))
+
+
+class GameOnDevices(unittest.TestCase):
+    """Guarantee (b), as far as devices show it: an attacker lays its marks behind the slot that is written."""
+
+    def lay(self, device, slot, marks):
+        """Write the marks into the slot, and where there are fewer than mirrors a mark that the rule does not have."""
+        for mirror, mark in enumerate((*marks, 15, 15, 15)[:device.mirrors()]):
+            device.write(mirror, slot, (mark, "lies"))
+
+    def written(self, device, slot, mark):
+        """Return a clone of the device with the record written to every mirror."""
+        twin = device.clone()
+        for mirror in range(device.mirrors()):
+            twin.write(mirror, slot, (mark, "new"))
+        return twin
+
+    def finds_its_end(self, device, rule, row):
+        return all(records(device, rule, mirror) == row for mirror in range(device.mirrors()))
+
+    def check_stopped(self, rule, mirrors, mark):
+        """Check that a writer appends as often as it can, and not once more; return how often."""
+        device = Device((((15, "old"),) * 32,) * mirrors)
+        device.set_header(0, mark)
+        attacker = Attacker(rule, mirrors, mark)
+        row = ()
+        while True:
+            self.lay(device, len(row) + 1, attacker.lying())
+            right = [other for other in range(len(rule))
+                     if self.finds_its_end(self.written(device, len(row), other), rule, row + ((other, "new"),))]
+            self.assertEqual(tuple(right), fitting(rule, attacker.mark(), attacker.lying()))
+            if not right:
+                return len(row)
+            best = max(right, key=lambda other: appends_left(rule, mirrors, other))
+            device = self.written(device, len(row), best)
+            attacker.wrote(best)
+            row += ((best, "new"),)
+
+    def test_writers_are_stopped_on_devices(self):
+        lengths = set()
+        for rule, mirrors in itertools.product(rules_up_to(15, 150, 4), (1, 2, 3)):
+            for mark in range(len(rule)):
+                count = appends_left(rule, mirrors, mark)
+                if count is not None:
+                    self.assertEqual(self.check_stopped(rule, mirrors, mark), count)
+                    lengths.add(count)
+        self.assertTrue({0, 1, 2, 3} <= lengths, lengths)
 
 
 class FullSight(unittest.TestCase):
